@@ -1,0 +1,1 @@
+"""Sameworth: same worths reckoned once."""
