@@ -21,6 +21,7 @@ END_PARTS = {
 }
 WORTHLESS = ("lay", "tell")
 OF_ROOMS = ("look", "lay")
+RECKONINGS = ("sum", "less", "times", "same", "below", "pick", "look")
 
 
 def has_worth(row):
@@ -29,6 +30,10 @@ def has_worth(row):
 
 def is_meet(row):
     return row[0] == "meet"
+
+
+def is_reckoning(row):
+    return row[0] in RECKONINGS
 
 
 def names_rooms(row):

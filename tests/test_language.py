@@ -53,7 +53,6 @@ class Language(unittest.TestCase):
             self.assertLessEqual(len(lines) - 1, 399, path.name)
             self.assertLessEqual(max(map(len, lines)), 120, path.name)
             self.assertRegex(text, r"\A[ -~\n]*\Z", path.name)
-            self.assertNotIn("%", "".join(re.findall(r"[\"'][^\"']*[\"']", text)))
             self.assertIsNone(BARRED_WORDS.search(text), path.name)
 
     def test_function_size(self):
@@ -119,11 +118,56 @@ class Language(unittest.TestCase):
                 self.assertTrue(name in DOUBLE or not name.startswith("_"), name)
                 self.assertNotIn(name, BARRED_NAMES)
 
+    def test_no_local_name_is_an_imports_or_a_classes(self):
+        for path, text in self.each_file():
+            taken, tree = set(), ast.parse(text)
+            for node in tree.body:
+                if isinstance(node, ast.ImportFrom):
+                    taken |= {alias.asname or alias.name for alias in node.names}
+                elif isinstance(node, ast.ClassDef):
+                    taken.add(node.name)
+            for node in ast.walk(tree):
+                if isinstance(node, ast.Name) and isinstance(node.ctx, ast.Store):
+                    self.assertNotIn(node.id, taken, path.name)
+                elif isinstance(node, ast.arg):
+                    self.assertNotIn(node.arg, taken, path.name)
+
+    def test_attributes_that_are_read_are_assigned(self):
+        assigned, read = set(), set()
+        for path, node in self.each_node():
+            if isinstance(node, ast.ClassDef):
+                assigned |= {item.name for item in node.body if isinstance(item, ast.FunctionDef)}
+            elif isinstance(node, ast.Attribute) and isinstance(node.ctx, ast.Store):
+                assigned.add(node.attr)
+            elif isinstance(node, ast.Attribute):
+                read.add(node.attr)
+        of_builtins = set(
+            "append clear copy count endswith extend find get index insert isdigit items join keys pop remove replace "
+            "reverse setdefault split startswith strip update values sort add discard __init__".split()
+        )
+        self.assertLessEqual(read - of_builtins, assigned)
+
+    def test_what_a_loop_goes_over_isnt_changed_in_it(self):
+        changing = {"append", "clear", "extend", "insert", "pop", "remove", "reverse", "setdefault", "update", "sort"}
+        for path, node in self.each_node():
+            if not isinstance(node, ast.For):
+                continue
+            over = {inner.id for inner in ast.walk(node.iter) if isinstance(inner, ast.Name)} - {"self"}
+            for inner in [item for row in node.body for item in ast.walk(row)]:
+                if isinstance(inner, ast.Call) and isinstance(inner.func, ast.Attribute):
+                    if inner.func.attr in changing and isinstance(inner.func.value, ast.Name):
+                        self.assertNotIn(inner.func.value.id, over, (path.name, inner.lineno))
+                elif isinstance(inner, ast.Subscript) and not isinstance(inner.ctx, ast.Load):
+                    if isinstance(inner.value, ast.Name):
+                        self.assertNotIn(inner.value.id, over, (path.name, inner.lineno))
+
     def test_statements_and_signs(self):
         for path, node in self.each_node():
             self.assertNotIsInstance(node, BARRED_NODES)
             if isinstance(node, ast.Constant):
                 self.assertNotIsInstance(node.value, (float, complex))
+                if isinstance(node.value, str):
+                    self.assertNotIn("%", node.value)
             if isinstance(node, ast.Compare):
                 for sign, other in zip(node.ops, node.comparators):
                     if isinstance(sign, (ast.Is, ast.IsNot)):
