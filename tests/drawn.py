@@ -128,7 +128,7 @@ def block_order(rng, program):
 
 
 def row_order(rng, rows, begin):
-    """A block's rows, numbered from begin on, in another order: meets ahead, each behind those of the block it names."""
+    """A block's rows, numbered from begin on, in another order: meets ahead, each row behind those it names."""
     meets = [at for at, row in enumerate(rows) if row[0] == "meet"]
     rng.shuffle(meets)
     order, left = meets, [at for at, row in enumerate(rows) if row[0] != "meet"]
@@ -174,5 +174,5 @@ def reordered(rng, program):
                 row = ("meet", tuple(part for lead, part in by_lead))
             written.append(renamed(row, to))
         named = [blocks.index(other) for other in oracle.named_by(end)]
-        made.append((written, {"end": end, "go": ("go", *named), "if": ("if", to.get(end[1:2] and end[1]), *named)}[end[0]]))
+        made.append((written, ("if", to[end[1]], *named) if end[0] == "if" else (end[0], *named)))
     return made, [to[row] for row in range(len(to))]

@@ -7,6 +7,19 @@ ROW_KINDS = {
 END_KINDS = {"go": "b", "if": "rbb", "end": ""}
 
 
+def rows_in(program):
+    return [row for rows, end in program for row in rows]
+
+
+def owners_in(program):
+    """For each row its block."""
+    return [block for block, (rows, end) in enumerate(program) for row in rows]
+
+
+def with_worth(program):
+    return [number for number, row in enumerate(rows_in(program)) if row[0] not in ("lay", "tell")]
+
+
 def named_by(end):
     return {"go": end[1:], "if": end[2:], "end": ()}[end[0]]
 

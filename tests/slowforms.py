@@ -110,11 +110,6 @@ def row_form(row, made):
     return {"sum": plus, "less": minus, "times": times, "same": same, "below": below}[word](*(made[a] for a in args))
 
 
-def rows_and_owners(program):
-    rows = [row for block, end in program for row in block]
-    return rows, [at for at, (block, end) in enumerate(program) for row in block]
-
-
 def forms_by(rows, leaf_of):
     """Each row's form, leaf_of having for each meet the meet whose leaf it is, None where it is as its first part."""
     made = []
@@ -144,7 +139,7 @@ def leaf_wanted(rows, owners, made, meet):
 
 def readings(program):
     """The list of all readings: each choice of leaves for the meets that is as point 9 asks."""
-    rows, owners = rows_and_owners(program)
+    rows, owners = oracle.rows_in(program), oracle.owners_in(program)
     meets = [number for number, row in enumerate(rows) if row[0] == "meet"]
     choices = [[None] + [o for o in meets if o <= m and owners[o] == owners[m]] for m in meets]
     found = []
@@ -158,7 +153,7 @@ def readings(program):
 
 def parted(program):
     """The forms that come of guessing each meet as its first part, and parting until all comes out."""
-    rows, owners = rows_and_owners(program)
+    rows, owners = oracle.rows_in(program), oracle.owners_in(program)
     leaf_of = {number: None for number, row in enumerate(rows) if row[0] == "meet"}
     while True:
         made = forms_by(rows, leaf_of)

@@ -3,18 +3,14 @@ from copy import deepcopy
 
 from sameworth.counts import reckoned, times_done, way_of
 from sameworth.runs import run
-from tests import drawn, samples, slowruns
+from tests import drawn, oracle, samples, slowruns
 
 RECKONINGS = ("sum", "less", "times", "same", "below", "pick", "look")
 
 
-def rows_in(program):
-    return [row for rows, end in program for row in rows]
-
-
 class Reckoned(unittest.TestCase):
     def test_each_kind_of_row(self):
-        rows = rows_in(samples.ALL_ROWS)
+        rows = oracle.rows_in(samples.ALL_ROWS)
         for number, row in enumerate(rows):
             self.assertEqual(reckoned(samples.ALL_ROWS, [(number, 5)]), int(row[0] in RECKONINGS), row)
         self.assertEqual(reckoned(samples.CHOICE, [(5, 1), (6, 1), (4, None), (0, 1)]), 0)
@@ -31,7 +27,7 @@ class Reckoned(unittest.TestCase):
 
     def test_drawn_programs(self):
         for program in drawn.programs(71, 150, rooms=True):
-            rows = rows_in(program)
+            rows = oracle.rows_in(program)
             for takes in drawn.takes(72, 2):
                 for most in (0, 1, 7, 50):
                     done = run(program, takes, most)[2]
@@ -57,7 +53,8 @@ class TimesDone(unittest.TestCase):
             for takes in drawn.takes(74, 2):
                 done = run(program, takes, 60)[2]
                 rows = [row for row, worth in done]
-                self.assertEqual(times_done(program, done), [rows.count(row) for row in range(len(rows_in(program)))])
+                expected = [rows.count(row) for row in range(len(oracle.rows_in(program)))]
+                self.assertEqual(times_done(program, done), expected)
 
 
 class WayOf(unittest.TestCase):
@@ -78,7 +75,8 @@ class WayOf(unittest.TestCase):
         self.assertEqual(told[11], [0, 1, 2, 1])
 
     def test_of_a_run_that_becomes_great(self):
-        program = [([("num", 10 ** 12)], ("go", 1)), ([("meet", (0, 2)), ("times", 1, 1)], ("if", 0, 1, 2)), ([], ("end",))]
+        squares = ([("meet", (0, 2)), ("times", 1, 1)], ("if", 0, 1, 2))
+        program = [([("num", 10 ** 12)], ("go", 1)), squares, ([], ("end",))]
         # The third square would be 10 ** 96.
         self.assertEqual(run(program, [0] * 6, 99)[0], "great")
         self.assertEqual(way_of(program, [0] * 6, 99), [0, 1, 1])

@@ -249,7 +249,8 @@ class Pick(Asked):
         f, x, y, z = self.forms, self.x, self.y, self.z
         for n in range(-7, 8):
             self.assertEqual(f.pick(f.num(n), [x, y, z]), [x, y, z][n % 3])
-            self.assertEqual(f.pick(self.total((3, x), (-6, f.times(x, y)), (1, f.num(n))), [x, y, z]), [x, y, z][n % 3])
+            whole = self.total((3, x), (-6, f.times(x, y)), (1, f.num(n)))
+            self.assertEqual(f.pick(whole, [x, y, z]), [x, y, z][n % 3])
         self.assertEqual(f.pick(x, [y]), y)
 
     def test_alike_parts(self):

@@ -22,6 +22,10 @@ FUNCTIONS = {
         "way_of": ["program", "takes", "most"],
     },
     "numbering": {"numbers_of": ["program"]},
+    "readings": {"shows_reading": ["program", "numbers"]},
+    "spreads": {"opened": ["program", "paper", "row", "steps"]},
+    "papers": {"paper_of": ["program"]},
+    "papercheck": {"shows_paper": ["program", "paper"], "leasts_by": ["program", "paper"]},
 }
 CLASSES = {
     "errors": {"WorthError": {}, "BadStep": {"__init__": ["step"]}, "BadRow": {"__init__": ["row"]}, "NoProgram": {}},

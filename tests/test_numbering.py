@@ -10,18 +10,6 @@ from tests import drawn, oracle, samples, slowforms
 PLAIN = [program for program, numbers in samples.NUMBERED]
 
 
-def rows_in(program):
-    return [row for rows, end in program for row in rows]
-
-
-def with_worth(program):
-    return [number for number, row in enumerate(rows_in(program)) if row[0] not in ("lay", "tell")]
-
-
-def owners_in(program):
-    return [block for block, (rows, end) in enumerate(program) for row in rows]
-
-
 def pairs_alike(numbers):
     rows = [row for row, number in enumerate(numbers) if number is not None]
     return {(a, b) for a in rows for b in rows if numbers[a] == numbers[b]}
@@ -99,7 +87,7 @@ class Widest(unittest.TestCase):
     def test_by_all_readings(self):
         several = 0
         for program in [p for p in PLAIN if len(p) < 6] + list(drawn.programs(101, 900)):
-            rows = rows_in(program)
+            rows = oracle.rows_in(program)
             if sum(row[0] == "meet" for row in rows) > 5:
                 continue
             told = pairs_alike(numbers_of(program))
@@ -114,7 +102,7 @@ class Widest(unittest.TestCase):
             made = slowforms.parted(program)
             told = Numbering(program)
             self.assertEqual(told.numbers(), slowforms.numbers(made), program)
-            for row in with_worth(program):
+            for row in oracle.with_worth(program):
                 self.assertEqual(told.leaves(row), slowforms.leaves_in(made[row]), (program, row))
 
     def test_in_another_order(self):
@@ -163,16 +151,16 @@ class Leaves(unittest.TestCase):
 
     def test_is_leaf_just_where_its_form_is_one_of_its_own_block(self):
         for program in drawn.programs(108, 400):
-            made, told, owners = slowforms.parted(program), Numbering(program), owners_in(program)
-            for row, what in enumerate(rows_in(program)):
+            made, told, owners = slowforms.parted(program), Numbering(program), oracle.owners_in(program)
+            for row, what in enumerate(oracle.rows_in(program)):
                 if what[0] == "meet":
                     own = [slowforms.leaf((1, m)) for m in range(len(owners)) if owners[m] == owners[row]]
                     self.assertIs(told.is_leaf(row), made[row] in own, (program, row))
 
     def test_their_blocks_lie_on_all_ways(self):
         for program in PLAIN + list(drawn.programs(109, 500, 7)):
-            told, owners, ways = Numbering(program), owners_in(program), oracle.above(program)
-            for row in with_worth(program):
+            told, owners, ways = Numbering(program), oracle.owners_in(program), oracle.above(program)
+            for row in oracle.with_worth(program):
                 for kind, at in told.leaves(row):
                     if kind == 1:
                         self.assertIn(owners[at], ways[owners[row]], (program, row))
@@ -214,9 +202,9 @@ class AlongRuns(unittest.TestCase):
     def test_alike_fresh_rows_have_one_worth(self):
         compared = 0
         for program, takes, told in self.each_run():
-            owners, numbers, last = owners_in(program), told.numbers(), {}
+            owners, numbers, last = oracle.owners_in(program), told.numbers(), {}
             blocks_of = {
-                row: {owners[at] for kind, at in told.leaves(row) if kind == 1} for row in with_worth(program)
+                row: {owners[at] for kind, at in told.leaves(row) if kind == 1} for row in oracle.with_worth(program)
             }
             for block, done in self.rounds(program, takes):
                 last = {row: worth for row, worth in last.items() if block not in blocks_of[row]}
@@ -235,22 +223,22 @@ class AskersOwn(unittest.TestCase):
             told = Numbering(program)
             self.assertIs(type(told.numbers()), list)
             self.assertIs(type(numbers_of(program)), list)
-            for row in with_worth(program):
+            for row in oracle.with_worth(program):
                 self.assertIs(type(told.leaves(row)), list)
                 self.assertTrue(all(type(name) is tuple for name in told.leaves(row)))
 
     def test_what_is_told_can_be_changed(self):
         for program, numbers in samples.NUMBERED:
             told = Numbering(program)
-            leaves = [told.leaves(row) for row in with_worth(program)]
+            leaves = [told.leaves(row) for row in oracle.with_worth(program)]
             told.numbers().append("spoilt")
             told.numbers().reverse()
             numbers_of(program).clear()
-            for row in with_worth(program):
+            for row in oracle.with_worth(program):
                 told.leaves(row).append("spoilt")
             self.assertEqual(told.numbers(), numbers)
             self.assertEqual(numbers_of(program), numbers)
-            self.assertEqual([told.leaves(row) for row in with_worth(program)], leaves)
+            self.assertEqual([told.leaves(row) for row in oracle.with_worth(program)], leaves)
 
     def test_what_is_handed_in_stays_and_isnt_kept(self):
         for program, numbers in samples.NUMBERED:
@@ -258,14 +246,14 @@ class AskersOwn(unittest.TestCase):
             told = Numbering(handed)
             numbers_of(handed)
             self.assertEqual(handed, program)
-            leaves = [told.leaves(row) for row in with_worth(program)]
-            meets = [row for row, what in enumerate(rows_in(program)) if what[0] == "meet"]
+            leaves = [told.leaves(row) for row in oracle.with_worth(program)]
+            meets = [row for row, what in enumerate(oracle.rows_in(program)) if what[0] == "meet"]
             are_leaves = [told.is_leaf(row) for row in meets]
             for rows, end in handed:
                 rows.clear()
             handed.clear()
             self.assertEqual(told.numbers(), numbers)
-            self.assertEqual([told.leaves(row) for row in with_worth(program)], leaves)
+            self.assertEqual([told.leaves(row) for row in oracle.with_worth(program)], leaves)
             self.assertEqual([told.is_leaf(row) for row in meets], are_leaves)
 
     def test_two_side_by_side(self):

@@ -3,29 +3,13 @@ from copy import deepcopy
 
 from sameworth.programs import is_plain, is_program
 from tests import oracle, samples
+from tests.things import numbers_otherwise, variants
 
 JUNK = [
     None, True, False, "", "x", "end", "0", 0, 1, 2, 3, 5, 6, -1, 99, 10 ** 30, -(10 ** 30),
     [], (), {}, [0], (0,), (0, 0), (0, 1), {0: 1}, {"rows": []}, ("end",), ["end"], ("go", 1), ("take", 0),
     ("num", 0), ("tell", 0), ("meet", (0, 0)), ("meet", (0, 1)), ([], ("end",)), [([], ("end",))],
 ]
-
-
-def variants(thing):
-    """All that come of a thing by one other item, one more, one fewer, or the other kind of row of things."""
-    if not isinstance(thing, (list, tuple)):
-        return
-    kind, items = type(thing), list(thing)
-    yield tuple(items) if kind is list else items
-    for at in range(len(items)):
-        yield kind(items[:at] + items[at + 1:])
-        yield kind(items[:at] + [items[at]] + items[at:])
-        for other in JUNK:
-            yield kind(items[:at] + [other] + items[at + 1:])
-        for other in variants(items[at]):
-            yield kind(items[:at] + [other] + items[at + 1:])
-    for other in JUNK:
-        yield kind(items + [other])
 
 
 def one_block(*rows):
@@ -357,25 +341,13 @@ class Names(Asked):
 class OneThingOtherwise(unittest.TestCase):
     def test_as_the_words_tell(self):
         for program in samples.SMALL:
-            for thing in variants(program):
+            for thing in variants(program, JUNK):
                 self.assertIs(is_program(thing), oracle.is_program(thing), thing)
 
     def test_other_numbers_named(self):
         for program in samples.SMALL:
-            for thing in renumbered(program):
+            for thing in numbers_otherwise(program, range(-1, 12)):
                 self.assertIs(is_program(thing), oracle.is_program(thing), thing)
-
-
-def renumbered(program):
-    """All that come of a program by another number, near what is there, at one place."""
-    def walk(thing):
-        if type(thing) is int:
-            yield from range(-1, 12)
-        elif isinstance(thing, (list, tuple)):
-            for at, item in enumerate(thing):
-                for other in walk(item):
-                    yield type(thing)(list(thing[:at]) + [other] + list(thing[at + 1:]))
-    return walk(program)
 
 
 class Plain(unittest.TestCase):
