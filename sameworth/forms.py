@@ -110,19 +110,26 @@ class Forms:
 
     def put(self, f, name, g):
         """A form with a leaf replaced by another form, tests and picks being made anew."""
+        return self.exchanged(f, ("leaf", name), g)
+
+    def exchanged(self, f, what, g):
+        """A form with an atom, wherever it stands, replaced by another form, tests and picks being made anew.
+
+        What only then comes to be that atom stays: it isn't looked at again.
+        """
         becomes = {}
         # Rising: what stands within an atom has been made anew when the atom is come to.
         for atom in self.atoms_within(f):
-            total = self.sums[self.made_anew(atom, name, g, becomes)]
+            total = self.sums[g if self.atoms[atom] == what else self.made_anew(atom, becomes)]
             if total != atom_sum(atom):
                 becomes[atom] = total
         return self.keep(replaced(self.sums[f], becomes))
 
-    def made_anew(self, atom, name, g, becomes):
-        """The form that an atom is where g is put for a leaf, by what the atoms within it become."""
+    def made_anew(self, atom, becomes):
+        """The form that an atom is by what the atoms within it become."""
         what = self.atoms[atom]
         if what[0] == "leaf":
-            return g if what[1] == name else self.leaf(what[1])
+            return self.leaf(what[1])
         total = replaced(self.sums[what[1]], becomes)
         if what[0] == "same":
             return self.same_by(total)

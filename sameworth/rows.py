@@ -60,6 +60,28 @@ def numbers_in(thing, kinds):
     return named
 
 
+def with_names(row, bearers):
+    """A row with each row that it names replaced by its bearer."""
+    return renamed(row, ROW_PARTS[row[0]], bearers)
+
+
+def end_with_names(end, bearers):
+    """An end, likewise."""
+    return renamed(end, END_PARTS[end[0]], bearers)
+
+
+def renamed(thing, kinds, bearers):
+    parts = []
+    for kind, part in zip(kinds, thing[1:]):
+        if kind == "row":
+            parts.append(bearers[part])
+        elif kind == "parts":
+            parts.append(tuple([bearers[name] for name in part]))
+        else:
+            parts.append(part)
+    return (thing[0], *parts)
+
+
 def blocks_named(end):
     """The blocks that an end names, in order."""
     return [part for kind, part in zip(END_PARTS[end[0]], end[1:]) if kind == "block"]

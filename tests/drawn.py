@@ -25,8 +25,8 @@ def drawn_ends(rng, many):
 class Drawing:
     """One program being drawn: how many rows each block has is fixed first, so that meets can name later ones."""
 
-    def __init__(self, rng, named, sizes, rooms, times):
-        self.rng, self.rooms, self.times = rng, rooms, times
+    def __init__(self, rng, named, sizes, rooms, times, tested):
+        self.rng, self.rooms, self.times, self.tested = rng, rooms, times, tested
         graph = [([], [("end",), ("go", *blocks), ("if", 0, *blocks)][len(blocks)]) for blocks in named]
         self.graph, self.leads, self.above = graph, oracle.leads_of(graph), oracle.above(graph)
         self.meets = [rng.randrange(4) if len(leads) > 1 else 0 for leads in self.leads]
@@ -94,23 +94,33 @@ class Drawing:
             size = self.owner.count(block)
             rows, begin = self.rows[begin:begin + size], begin + size
             if end[0] == "if":
-                end = ("if", self.rng.choice(self.standing(block, begin)), *end[2:])
+                end = ("if", self.rng.choice(self.testable(block, begin)), *end[2:])
             blocks.append((rows, end))
         return blocks
+
+    def testable(self, block, begin):
+        """The rows that an end may name; where tests are wanted, those of the rows that come nearest to them."""
+        fine = self.standing(block, begin)
+        if self.tested:
+            for words in (("same", "below"), ("sum", "less")):
+                nearer = [row for row in fine if self.rows[row][0] in words]
+                if nearer and self.rng.random() < 0.8:
+                    return nearer
+        return fine
 
     def is_meet_place(self, number):
         block = self.owner[number]
         return number - self.owner.index(block) < self.meets[block]
 
 
-def programs(seed, count, most_blocks=5, most_rows=4, rooms=False, times=2):
-    """So many right programs; without rooms they're plain."""
+def programs(seed, count, most_blocks=5, most_rows=4, rooms=False, times=2, tested=False):
+    """So many right programs; without rooms they're plain; tested: ends mostly name tests."""
     rng = Random(seed)
     for k in range(count):
         many = rng.randrange(1, most_blocks + 1)
         sizes = [rng.randrange(most_rows + 1) for block in range(many)]
         sizes[0] += 2
-        yield Drawing(rng, drawn_ends(rng, many), sizes, rooms, times).program()
+        yield Drawing(rng, drawn_ends(rng, many), sizes, rooms, times, tested).program()
 
 
 def takes(seed, count):

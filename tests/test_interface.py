@@ -26,6 +26,14 @@ FUNCTIONS = {
     "spreads": {"opened": ["program", "paper", "row", "steps"]},
     "papers": {"paper_of": ["program"]},
     "papercheck": {"shows_paper": ["program", "paper"], "leasts_by": ["program", "paper"]},
+    "roomless": {"roomless": ["program"], "numbers_with_rooms": ["program"]},
+    "seen": {"facts_at": ["program", "block"], "seen_from": ["program", "block"]},
+    "differing": {
+        "takes_by": ["k"],
+        "differing": ["program", "one", "other", "tries"],
+        "shows_differing": ["program", "one", "other", "told"],
+    },
+    "homes": {"home_of": ["program", "row"], "there_at": ["program"], "there_behind": ["program", "row"]},
 }
 CLASSES = {
     "errors": {"WorthError": {}, "BadStep": {"__init__": ["step"]}, "BadRow": {"__init__": ["row"]}, "NoProgram": {}},
