@@ -82,6 +82,12 @@ def renamed(thing, kinds, bearers):
     return (thing[0], *parts)
 
 
+def end_with_blocks(end, blocks):
+    """An end with each block that it names replaced by the one that a dict has for it."""
+    parts = [blocks[part] if kind == "block" else part for kind, part in zip(END_PARTS[end[0]], end[1:])]
+    return (end[0], *parts)
+
+
 def blocks_named(end):
     """The blocks that an end names, in order."""
     return [part for kind, part in zip(END_PARTS[end[0]], end[1:]) if kind == "block"]

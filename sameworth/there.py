@@ -5,7 +5,10 @@ from sameworth.numbering import Numbering
 
 
 class There:
-    """The homes of a program's worths, and at which blocks' ends each one is there on all ways."""
+    """The homes of a program's worths, and at which blocks' ends each one is there on all ways.
+
+    A worth may be put in on leads, pairs of a block and one behind it: it's there behind these, too.
+    """
 
     def __init__(self, program):
         numbering = Numbering(program)
@@ -13,18 +16,21 @@ class There:
         self.owners = owners_of(program)
         self.leasts = numbering.numbers()
         self.homes = {}
+        self.puts = {}
         self.ends = {}
         for least in sorted({number for number in self.leasts if number is not None}):
             self.homes[least] = home_by(numbering.leaves(least), self.owners)
-            self.ends[least] = there_at_ends(self.leads, self.homes[least], self.blocks_with(least))
+            self.put_in(least, [])
 
-    def blocks_with(self, least):
-        """The list of the blocks that have a row of that worth."""
-        return [owner for owner, number in zip(self.owners, self.leasts) if number == least]
+    def put_in(self, least, puts):
+        """Have a worth put in on these leads, and on no others."""
+        doers = [owner for owner, number in zip(self.owners, self.leasts) if number == least]
+        self.puts[least] = puts
+        self.ends[least] = there_at_ends(self.leads, self.homes[least], doers, puts)
 
     def at_begin(self, least, block):
         """Whether a worth is there where a block is come to, on all ways."""
-        return is_brought(self.leads, self.homes[least], self.ends[least], block)
+        return is_brought(self.leads, self.homes[least], self.puts[least], self.ends[least], block)
 
     def at_row(self, row):
         """Whether a row's worth is there just ahead of it, on all ways."""
@@ -40,18 +46,20 @@ def home_by(leaves, owners):
     return max([owners[at] if kind == 1 else 0 for kind, at in leaves], default=0)
 
 
-def is_brought(leads, home, ends, block):
+def is_brought(leads, home, puts, ends, block):
     """Whether a worth is there where a block is come to, by the truths of whether it is at blocks' ends."""
-    return block != home and len(leads[block]) > 0 and all(ends[lead] for lead in leads[block])
+    if block == home or not leads[block]:
+        return False
+    return all(ends[lead] or (lead, block) in puts for lead in leads[block])
 
 
-def there_at_ends(leads, home, doers):
+def there_at_ends(leads, home, doers, puts):
     """The list of whether at each block's end a worth is there on all ways, doers being the blocks that make it."""
     # All are taken to have it until a way is found on which it's not there, so that rounds hold it.
     ends = [True] * len(leads)
     changed = True
     while changed:
-        told = [block in doers or is_brought(leads, home, ends, block) for block in range(len(leads))]
+        told = [block in doers or is_brought(leads, home, puts, ends, block) for block in range(len(leads))]
         changed = told != ends
         ends = told
     return ends

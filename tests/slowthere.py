@@ -7,7 +7,7 @@ class Walk:
     """The ways of a program, of which put has more rows done on leads: a dict from (lead, block) to rows' classes."""
 
     def __init__(self, program, put=None):
-        self.program, self.put = program, put or {}
+        self.program, self.put = program, {} if put is None else put
         self.owners, self.above = oracle.owners_in(program), oracle.above(program)
         self.made = slowforms.parted(program)
 

@@ -33,6 +33,10 @@ FUNCTIONS = {
         "differing": ["program", "one", "other", "tries"],
         "shows_differing": ["program", "one", "other", "told"],
     },
+    "away": {"taken_away": ["program"]},
+    "putting": {"put_ins": ["program"], "moved": ["program"]},
+    "texts": {"program_text": ["program"], "read_program": ["text"]},
+    "desk": {"run_desk": ["text"]},
     "homes": {"home_of": ["program", "row"], "there_at": ["program"], "there_behind": ["program", "row"]},
 }
 CLASSES = {
