@@ -53,12 +53,12 @@ class Making:
 
     def make_block(self, block):
         self.begins.append(len(self.rows))
-        rows = self.program[block][0]
-        for row in rows:
+        inside = self.program[block][0]
+        for row in inside:
             if is_meet(row):
                 self.bearers.append(self.add_row(None))
         self.holds.append(self.held_at_begin(block))
-        for row in rows:
+        for row in inside:
             if not is_meet(row):
                 self.bearers.append(self.bear(row, self.holds[block]))
 

@@ -163,13 +163,15 @@ def renamed(row, to):
     return (row[0], *parts)
 
 
-def reordered(rng, program):
-    """The same program written down in another order, and the list of its rows' new numbers."""
+def reordered(rng, program, rows_too=True):
+    """The same program written down in another order, of blocks alone or of rows, too; the list of rows' new numbers."""
     blocks, new_rows, begins, begin = block_order(rng, program), [], [], 0
     for rows, end in program:
         begins.append(begin)
         begin += len(rows)
-    orders = [row_order(rng, rows, begins[block]) for block, (rows, end) in enumerate(program)]
+    orders = [list(range(len(rows))) for rows, end in program]
+    if rows_too:
+        orders = [row_order(rng, rows, begins[block]) for block, (rows, end) in enumerate(program)]
     for block in blocks:
         new_rows += [begins[block] + at for at in orders[block]]
     to, leads = {old: new for new, old in enumerate(new_rows)}, oracle.leads_of(program)
